@@ -179,6 +179,7 @@ func TestLengthOfNames(t *testing.T) {
 		if names.Valid(long) != within || names.Custom(long) || names.Host(long) {
 			t.Errorf("%d letters", n)
 		}
+		holdToWords(t, long) // with api's own MaxName
 		if n < 2 {
 			continue
 		}
