@@ -109,6 +109,7 @@ func TestEveryPair(t *testing.T) {
 func TestEveryCharacter(t *testing.T) {
 	for r := rune(0); r <= utf8.MaxRune; r++ {
 		c := string(r)
+		check(t, c)
 		same := !strings.ContainsRune("&<>\u00a0", r)
 		if text := Text(c); (text == c) != same {
 			t.Fatalf("Text(%q) = %q", c, text)
