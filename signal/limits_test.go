@@ -55,7 +55,7 @@ func TestAsManyPendingAsMayBe(t *testing.T) {
 	s.takes(later...)
 }
 
-// Slots of one shadow root, each with a name of its own. Here See takes its time, for each slot is looked for among all.
+// Slots of one shadow root, each with a name of its own. The words take their time here, for they look for each slot among all.
 func TestManySlotsOfOneRoot(t *testing.T) {
 	s := newScene(t, 1500)
 	host, root, _ := s.host(api.Flags{})

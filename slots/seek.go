@@ -1,23 +1,17 @@
 package slots
 
 import (
-	"slices"
-
 	"portiere/api"
 	"portiere/dom"
+	"portiere/shown"
 )
 
-// mayShow and isSlot say no of noughts, too: a number that stands for no node needs no question of its own.
-func mayShow(n api.Node) bool { return n.Kind == api.Element || n.Kind == api.Text }
-
-func isSlot(n api.Node) bool { return n.Kind == api.Element && n.Name == "slot" }
-
 func slotNamed(name string) func(n api.Node) bool {
-	return func(n api.Node) bool { return isSlot(n) && attribute(n, "name") == name }
+	return func(n api.Node) bool { return shown.IsSlot(n) && shown.Value(n, "name") == name }
 }
 
 func asksFor(name string) func(n api.Node) bool {
-	return func(n api.Node) bool { return mayShow(n) && attribute(n, "slot") == name }
+	return func(n api.Node) bool { return shown.MayShow(n) && shown.Value(n, "slot") == name }
 }
 
 func isIn(up int) func(n api.Node) bool {
@@ -55,13 +49,4 @@ func first(d *dom.Doc, i int, sought func(n api.Node) bool) int {
 		}
 	}
 	return none
-}
-
-// attribute is empty where there is none of that name.
-func attribute(n api.Node, name string) string {
-	k := slices.IndexFunc(n.Attrs, func(a api.Attr) bool { return a.Name == name })
-	if k < 0 {
-		return ""
-	}
-	return n.Attrs[k].Value
 }
